@@ -26,6 +26,11 @@ type Pair struct {
 	Head, Tail Value
 }
 
+// IsTrue says whether a value counts as true.
+func IsTrue(value Value) bool {
+	return value != Truth(false)
+}
+
 // List makes pairs of the values, with end behind the last of them.
 func List(values []Value, end Value) Value {
 	list := end

@@ -18,7 +18,7 @@ type reader struct {
 }
 
 // Read answers the data of a source, or why it is refused and at which place.
-func Read(source string) ([]data.Value, api.Errno, int) {
+func Read(source string) ([]Datum, api.Errno, int) {
 	if len(source) > api.MaxSource {
 		return nil, api.ErrLong, 0
 	}
@@ -45,20 +45,20 @@ func (r *reader) pass(wanted kind) bool {
 
 // dataAhead reads data up to a token that begins none; whether that token
 // may stand is for the caller to say.
-func (r *reader) dataAhead(depth int) ([]data.Value, bool) {
-	var list []data.Value
+func (r *reader) dataAhead(depth int) ([]Datum, bool) {
+	var list []Datum
 	for r.token.kind == word || r.token.kind == quote || r.token.kind == open {
-		value, ok := r.datum(depth)
+		datum, ok := r.datum(depth)
 		if !ok {
 			return nil, false
 		}
-		list = append(list, value)
+		list = append(list, datum)
 	}
 	return list, true
 }
 
 // datum reads one datum that stands in depth open lists.
-func (r *reader) datum(depth int) (data.Value, bool) {
+func (r *reader) datum(depth int) (Datum, bool) {
 	switch r.token.kind {
 	case word:
 		return r.atom()
@@ -67,33 +67,38 @@ func (r *reader) datum(depth int) (data.Value, bool) {
 	case open:
 		return r.list(depth + 1)
 	}
-	return nil, false
+	return Datum{}, false
 }
 
-func (r *reader) atom() (data.Value, bool) {
+func (r *reader) atom() (Datum, bool) {
+	place := r.token.place
 	value, ok := atomOf(r.token.text)
-	return value, ok && r.pass(word)
+	return Datum{Place: place, End: value}, ok && r.pass(word)
 }
 
-func (r *reader) quoted(depth int) (data.Value, bool) {
+func (r *reader) quoted(depth int) (Datum, bool) {
 	r.deepest = max(r.deepest, depth)
+	place := r.token.place
 	r.pass(quote)
-	value, ok := r.datum(depth)
-	return data.List([]data.Value{data.Symbol("quote"), value}, data.Empty{}), ok
+	inner, ok := r.datum(depth)
+	// The symbol is not written: the mark is where it stands.
+	symbol := Datum{Place: place, End: data.Symbol("quote")}
+	return Datum{Place: place, Parts: []Datum{symbol, inner}, End: data.Empty{}}, ok
 }
 
-func (r *reader) list(depth int) (data.Value, bool) {
+func (r *reader) list(depth int) (Datum, bool) {
 	r.deepest = max(r.deepest, depth)
+	place := r.token.place
 	r.pass(open)
-	values, ok := r.dataAhead(depth)
+	parts, ok := r.dataAhead(depth)
 	if !ok {
-		return nil, false
+		return Datum{}, false
 	}
-	var tail data.Value = data.Empty{}
-	if len(values) > 0 && r.pass(dot) {
+	tail := Datum{End: data.Empty{}}
+	if len(parts) > 0 && r.pass(dot) {
 		tail, ok = r.datum(depth)
 	}
-	return data.List(values, tail), ok && r.pass(shut)
+	return Datum{Place: place, Parts: append(parts, tail.Parts...), End: tail.End}, ok && r.pass(shut)
 }
 
 // atomOf answers what a word is, if it may stand at all.

@@ -1,6 +1,7 @@
 package rondo_test
 
 import (
+	"iter"
 	"strings"
 	"testing"
 
@@ -147,26 +148,43 @@ func holdsStill(t *testing.T, source, text string) {
 // P1, P3: all rows of up to six tokens.
 func TestAllShortRows(t *testing.T) {
 	kinds := []string{"a", "(", ")", ".", "'", "-1", "0x", "]"}
-	total := 1
-	for length := range 7 {
-		for number := range total {
-			tokens := make([]string, length)
-			for i, rest := 0, number; i < length; i, rest = i+1, rest/len(kinds) {
-				tokens[i] = kinds[rest%len(kinds)]
+	turn := 0
+	for tokens := range rows(kinds, 6) {
+		holdAgainstModel(t, tokens, turn)
+		turn++
+	}
+}
+
+// rows goes through all rows of words up to a length.
+func rows(words []string, longest int) iter.Seq[[]string] {
+	return func(yield func([]string) bool) {
+		total := 1
+		for length := range longest + 1 {
+			for number := range total {
+				row := make([]string, length)
+				for i, rest := 0, number; i < length; i, rest = i+1, rest/len(words) {
+					row[i] = words[rest%len(words)]
+				}
+				if !yield(row) {
+					return
+				}
 			}
-			holdAgainstModel(t, tokens, number)
+			total *= len(words)
 		}
-		total *= len(kinds)
+	}
+}
+
+// drawFrom makes a source of numbers that are the same in each run.
+func drawFrom(seed uint32) func(below int) int {
+	return func(below int) int {
+		seed = seed*1664525 + 1013904223
+		return int(seed>>8) % below
 	}
 }
 
 // P1, P3: long rows that mostly go on well, up to and beyond the greatest depth.
 func TestLongRows(t *testing.T) {
-	seed := uint32(1)
-	draw := func(below int) int {
-		seed = seed*1664525 + 1013904223
-		return int(seed>>8) % below
-	}
+	draw := drawFrom(1)
 	counts := map[api.Errno]int{}
 	for turn := range 20000 {
 		tokens := growRow(draw, 1+draw(100))
