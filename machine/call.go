@@ -37,6 +37,8 @@ func (r *run) callWith(procedure data.Procedure, arguments []data.Value) {
 		r.callBasic(p, arguments)
 	case *closure:
 		r.body(p.body, &scope{slots: arguments, around: p.at})
+	case *continuation:
+		r.resume(p, arguments[0])
 	}
 }
 

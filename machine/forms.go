@@ -27,10 +27,9 @@ func (r *run) start(form syntax.Form, at *scope) {
 	case syntax.Until:
 		r.until(f.Stop, f.Forms, at)
 	case syntax.Reset:
-		r.body(f.Body, at)
+		r.reset(f, at)
 	case syntax.Shift:
-		// Nothing is marked as a reset yet that it could find.
-		r.fail(api.WhyReset)
+		r.shift(f, at)
 	case syntax.Define:
 		r.define(f, at)
 	case syntax.Call:

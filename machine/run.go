@@ -29,17 +29,18 @@ type run struct {
 	form    syntax.Form
 	at      *scope
 	value   data.Value
-	why     int // the reason, if it went wrong
-	todo    *task
+	todo    *task   // up to the innermost reset
+	beyond  *beyond // nil where no reset is around
+	kind    int     // Wrong or NoFuel, once it cannot go on
+	why     int
 }
 
 // all comes to the last form's value as it is shown.
 func (r *run) all(forms []syntax.Form) api.Outcome {
 	text := ""
 	for i, form := range forms {
-		kind := r.whole(form)
-		if kind != api.Value {
-			return api.Outcome{Kind: kind, Why: r.why}
+		if !r.whole(form) {
+			return api.Outcome{Kind: r.kind, Why: r.why}
 		}
 		if i < len(forms)-1 {
 			continue
@@ -53,30 +54,42 @@ func (r *run) all(forms []syntax.Form) api.Outcome {
 	return api.Outcome{Kind: api.Value, Text: text}
 }
 
-// whole evaluates a form up to its value. It goes round in a loop, and what
-// waits is kept in a list: a program may call deeper than Go's own calls go.
-func (r *run) whole(form syntax.Form) int {
+// whole evaluates a form, and says whether it came to a value. It goes round
+// in a loop, and what waits is kept in lists: a program may call deeper than
+// Go's own calls go.
+func (r *run) whole(form syntax.Form) bool {
 	r.evaluate(form, nil)
-	for r.why == 0 {
+	for r.kind == 0 {
 		switch {
-		case r.form != nil && r.steps == r.fuel:
-			return api.NoFuel
 		case r.form != nil:
-			r.steps++
-			r.start(r.form, r.at)
+			if r.step() {
+				r.start(r.form, r.at)
+			}
 		case r.todo != nil:
 			first := r.todo
 			r.todo = first.next
 			first.do(r, r.value)
+		case r.beyond != nil:
+			r.leave()
 		default:
-			return api.Value
+			return true
 		}
 	}
-	return api.Wrong
+	return false
+}
+
+// step takes a step, and says whether there was fuel for it.
+func (r *run) step() bool {
+	if r.steps == r.fuel {
+		r.kind = api.NoFuel
+		return false
+	}
+	r.steps++
+	return true
 }
 
 // evaluate, give and fail say how the run goes on; each start of a form and
-// each task ends in one of them.
+// each task ends in one of them, or for want of fuel.
 
 func (r *run) evaluate(form syntax.Form, at *scope) {
 	r.form, r.at = form, at
@@ -87,7 +100,7 @@ func (r *run) give(value data.Value) {
 }
 
 func (r *run) fail(why int) {
-	r.why = why
+	r.kind, r.why = api.Wrong, why
 }
 
 // then lays a task ahead of all that is to be done.

@@ -126,10 +126,16 @@ func TestDisplay(t *testing.T) {
 
 // P6: with less fuel than it takes there is none at all, whatever the form.
 func TestEveryFuel(t *testing.T) {
-	for _, c := range []comesTo{
+	everyFuel(t, []comesTo{
 		{"(begin (display 5) (+ 1 (* 2 3)))", "7", 11}, {"(define (f n) (if (= n 0) 'end (f (- n 1)))) (f 2)", "end", 33}, {"(let ((x 1) (y '(2))) (set! x (car y)) (and x (or #f x)))", "2", 12},
 		{"((lambda (x) x x) 1)", "1", 5}, {"1 2 3", "3", 3}, {"(if #f 1)", "()", 2}, {"(and)", "#t", 1}, {"", "", 0},
-	} {
+	})
+}
+
+// everyFuel asks what each source comes to with just enough fuel, with more, and with each that is too little.
+func everyFuel(t *testing.T, list []comesTo) {
+	t.Helper()
+	for _, c := range list {
 		for fuel := range c.steps {
 			got, errno, place := rondo.New().Eval(c.source, fuel)
 			got.Shown = nil

@@ -25,7 +25,8 @@ func holdAgainstReference(t *testing.T, m *rondo.Machine, r *reference, source s
 
 // maker draws programs that mostly go well for a while.
 type maker struct {
-	draw func(below int) int
+	draw  func(below int) int
+	marks bool // whether it sets brackets around some forms, which no source has
 }
 
 func (g maker) one(words string) string {
@@ -33,7 +34,7 @@ func (g maker) one(words string) string {
 	return list[g.draw(len(list))]
 }
 
-func (g maker) name() string { return g.one("a b c f g") }
+func (g maker) name() string { return g.one("a b c f g k") }
 
 func (g maker) some(least, most, deep int) string {
 	text := ""
@@ -48,7 +49,7 @@ func (g maker) atom() string {
 	case 0:
 		return g.one("#t #f")
 	case 1:
-		return g.one("'a 'if '() '(1) '(a . b) '(1 2 3) ''a '(()) '#f '-1")
+		return g.one("'a 'if '() '(1) '(a.b) '(1'b(2)) ''a '(()) '#f '-1")
 	case 2:
 		return g.one("+ - car cons list < display not eq? null? procedure?")
 	case 3, 4:
@@ -65,15 +66,25 @@ func (g maker) number() string {
 }
 
 func (g maker) form(deep int) string {
+	if g.marks && g.draw(6) == 0 {
+		return "[" + g.bareForm(deep) + "]"
+	}
+	return g.bareForm(deep)
+}
+
+func (g maker) bareForm(deep int) string {
 	if deep == 0 {
 		return g.atom()
 	}
 	deep--
+	if g.draw(4) == 0 {
+		return g.delimited(deep)
+	}
 	switch g.draw(20) {
 	case 0:
 		return "(if" + g.some(2, 3, deep) + ")"
 	case 1:
-		return "(if (" + g.one("< = null? pair? not") + g.some(1, 2, deep) + ")" + g.some(2, 3, deep) + ")"
+		return "(if (" + g.one("< = null? pair? not") + g.some(1, 2, deep) + ")" + g.some(1, 2, deep) + ")"
 	case 2:
 		return "(lambda (" + g.one("a f") + ")" + g.some(1, 2, deep) + ")"
 	case 3:
@@ -106,8 +117,37 @@ func (g maker) form(deep int) string {
 	return g.atom()
 }
 
-func (g maker) define() string {
+// delimited draws a form that has to do with resets and shifts.
+func (g maker) delimited(deep int) string {
+	switch g.draw(7) {
+	case 0:
+		return "(reset" + g.some(1, 2, deep) + ")"
+	case 1:
+		return "(reset (" + g.one("list + cons begin and or g") + g.some(0, 1, deep) + " " + g.shift(deep) + g.some(0, 1, deep) + "))"
+	case 2:
+		return g.shift(deep)
+	case 3:
+		return "(set! " + g.name() + " k)"
+	case 4:
+		return "(k)"
+	}
+	return "(k " + g.form(deep) + ")"
+}
+
+func (g maker) shift(deep int) string {
 	switch g.draw(4) {
+	case 0:
+		return "(shift k (list (k " + g.form(min(deep, 1)) + ") (k " + g.form(min(deep, 1)) + ")))"
+	case 1:
+		return "(shift c (set! k c)" + g.some(1, 1, deep) + ")"
+	}
+	return "(shift " + g.one("k k a f") + g.some(1, 2, deep) + ")"
+}
+
+func (g maker) define() string {
+	switch g.draw(5) {
+	case 4:
+		return "(define k (reset" + g.some(1, 2, 3) + "))"
 	case 0:
 		return "(define " + g.name() + " " + g.form(2) + ")"
 	case 1:
@@ -115,7 +155,16 @@ func (g maker) define() string {
 	case 2:
 		return "(define (g " + g.one("a b f") + ")" + g.some(1, 2, 3) + ")"
 	}
-	return "(define " + g.name() + " " + g.one("1 2 '(1 2) 'a car list") + ")"
+	return "(define " + g.name() + " " + g.one("1 2 '(1(2)) 'a car list") + ")"
+}
+
+// prelude lets each name stand for something, most often.
+func (g maker) prelude() string {
+	text := ""
+	for _, name := range []string{"a", "b", "c"} {
+		text += "(define " + name + " " + g.one("1 2 -3 '(1(2)) 'a #f car list") + ") "
+	}
+	return text + "(define (f a)" + g.some(1, 2, 2) + ") (define (g " + g.one("a b") + ")" + g.some(1, 2, 2) + ") (define k (reset (" + g.one("+ list begin cons") + " 1 (shift k k))))"
 }
 
 // source draws a source that is short enough, and spoils a token of some.
@@ -131,18 +180,21 @@ func (g maker) source() string {
 		}
 	}
 	if tokens := strings.Fields(strings.NewReplacer("(", " ( ", ")", " ) ", "'", " ' ").Replace(text)); len(tokens) > 0 && g.draw(6) == 0 {
-		tokens[g.draw(len(tokens))] = g.one("if define ( ) . ' a 1 quote let lambda set! shift")
+		tokens[g.draw(len(tokens))] = g.one("if define ( ) . ' a 1 quote let lambda set! shift reset")
 		text = strings.Join(tokens, " ")
 	}
 	return text
 }
 
-// P1, P5, P6, P7: rows of sources on one machine, held against the reference.
+// P1, P5 to P8: rows of sources on one machine, held against the reference.
 func TestDrawnPrograms(t *testing.T) {
 	g := maker{draw: drawFrom(7)}
-	kinds, reasons, errors := map[int]int{}, map[int]int{}, map[api.Errno]int{}
+	kinds, reasons, errors, resumed := map[int]int{}, map[int]int{}, map[api.Errno]int{}, 0
 	for range 6000 {
 		m, r := rondo.New(), newReference()
+		if g.draw(4) > 0 {
+			holdAgainstReference(t, m, r, g.prelude(), 2000)
+		}
 		for range 4 {
 			source := g.source()
 			fuel := []int{g.draw(40), 40 + g.draw(400), 2000}[g.draw(3)]
@@ -151,6 +203,7 @@ func TestDrawnPrograms(t *testing.T) {
 			reasons[got.Why]++
 			errors[errno]++
 		}
+		resumed += min(r.resumed, 1)
 		if t.Failed() {
 			return
 		}
@@ -160,13 +213,13 @@ func TestDrawnPrograms(t *testing.T) {
 			t.Errorf("only %d programs were of kind %d: they test too little", kinds[kind], kind)
 		}
 	}
-	for _, why := range []int{api.WhyName, api.WhyType, api.WhyCount, api.WhyCall, api.WhyOver, api.WhyZero} {
+	for _, why := range []int{api.WhyName, api.WhyType, api.WhyCount, api.WhyCall, api.WhyOver, api.WhyZero, api.WhyReset} {
 		if reasons[why] < 20 {
 			t.Errorf("only %d programs went wrong for reason %d: they test too little", reasons[why], why)
 		}
 	}
-	if errors[api.ErrForm] < 400 {
-		t.Errorf("only %d sources had no forms: they test too little", errors[api.ErrForm])
+	if errors[api.ErrForm] < 400 || resumed < 400 {
+		t.Errorf("only %d sources had no forms, and only %d rows called what a shift made: they test too little", errors[api.ErrForm], resumed)
 	}
 }
 
@@ -226,13 +279,11 @@ func FuzzEval(f *testing.F) {
 	for _, seed := range []string{
 		"", "(+ 1 (* 2 3))", "(define (f n) (if (= n 0) 1 (* n (f (- n 1))))) (f 30)", "(let ((x '(1 . 2))) (set! x (cdr x)) (display x))",
 		"((lambda (f) (f f)) (lambda (f) (f f)))", "(and 1 (or #f 'a)) (list car - 7)", "(+ 1 ())", "(define (d x) (d (cons x x))) (d 1)",
+		"(+ 1 (reset (* 2 (shift k (k (k 5))))))", "(define k 0) (reset (list 1 (shift c (set! k c) (c 2)) (shift c (c 3)))) (k (k 4))", "(reset (let ((x (shift k (list (k 1) (k 2))))) (set! x (+ x (shift j j))) x))",
 	} {
 		f.Add(seed, 100)
 	}
 	f.Fuzz(func(t *testing.T, source string, fuel int) {
-		// What a shift does in a reset is not told by the reference yet.
-		if !strings.Contains(source, "reset") {
-			holdAgainstReference(t, rondo.New(), newReference(), source, fuel)
-		}
+		holdAgainstReference(t, rondo.New(), newReference(), source, fuel)
 	})
 }

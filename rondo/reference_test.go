@@ -11,7 +11,9 @@ import (
 
 // The reference is a second evaluator, made as unlike the program as can be:
 // it walks pairs by calling itself, looks names up when it meets them, counts
-// with numbers of any length, and panics where an evaluation ends early.
+// with numbers of any length, and panics where an evaluation ends early. It
+// keeps no list of what is to be done: a shift goes back to its reset through
+// all that called it, and each of them lays down what it would have done.
 
 type cell struct {
 	place      int
@@ -22,6 +24,7 @@ type cell struct {
 	parameters []string // of a lambda
 	body       []*cell
 	around     *bound
+	taken      func(value *cell) done // of what a shift made
 }
 
 type sort int
@@ -34,6 +37,7 @@ const (
 	aPair
 	aBasic
 	aLambda
+	aTaken
 )
 
 // bound is one name and what it stands for, and all names around it.
@@ -47,6 +51,32 @@ type bound struct {
 type ending struct{ kind, why int }
 
 func wrong(why int) { panic(ending{api.Wrong, why}) }
+
+// done is what an evaluation came to: a value, or a shift on its way to its
+// reset, with what would be done with its value as far as it has come.
+type done struct {
+	value *cell
+	shift func(k *cell) done
+	rest  func(value *cell) done
+}
+
+func itself(value *cell) done { return done{value: value} }
+
+func (d done) then(next func(value *cell) done) done {
+	if d.shift == nil {
+		return next(d.value)
+	}
+	return done{shift: d.shift, rest: func(value *cell) done { return d.rest(value).then(next) }}
+}
+
+// within is what an evaluation comes to in a reset.
+func within(d done) done {
+	for d.shift != nil {
+		rest := d.rest
+		d = d.shift(&cell{sort: aTaken, taken: func(value *cell) done { return within(rest(value)) }})
+	}
+	return d
+}
 
 func truth(is bool) *cell {
 	return &cell{sort: aTruth, text: map[bool]string{true: "#t", false: "#f"}[is]}
@@ -227,6 +257,7 @@ type reference struct {
 	defined     map[string]*cell
 	steps, fuel int
 	shown       []string
+	resumed     int // how often what a shift made was called
 }
 
 func newReference() *reference {
@@ -256,9 +287,12 @@ func (r *reference) eval(source string, fuel int) (outcome api.Outcome, errno ap
 	}()
 	text := ""
 	for i, c := range list {
-		value := r.value(c, nil)
+		came := r.value(c, nil)
+		if came.shift != nil {
+			wrong(api.WhyReset)
+		}
 		if i == len(list)-1 {
-			text = shownCell(value)
+			text = shownCell(came.value)
 		}
 	}
 	return api.Outcome{Kind: api.Value, Text: text}, api.OK, 0
@@ -271,20 +305,19 @@ func (r *reference) step() {
 	r.steps++
 }
 
-func (r *reference) value(c *cell, names *bound) *cell {
+func (r *reference) value(c *cell, names *bound) done {
 	r.step()
 	if c.sort == aSymbol {
-		return *r.place(c.text, names)
+		return itself(*r.place(c.text, names))
 	}
 	if c.sort != aPair {
-		return c
+		return itself(c)
 	}
 	list, _ := items(c)
 	if isKeyword(list[0]) {
 		return r.keyword(list[0].text, list[1:], names)
 	}
-	values := r.values(list, names)
-	return r.call(values[0], values[1:])
+	return r.values(list, names, nil, func(values []*cell) done { return r.call(values[0], values[1:]) })
 }
 
 func (r *reference) place(name string, names *bound) **cell {
@@ -300,55 +333,69 @@ func (r *reference) place(name string, names *bound) **cell {
 	return &value
 }
 
-func (r *reference) values(list []*cell, names *bound) []*cell {
-	var values []*cell
-	for _, c := range list {
-		values = append(values, r.value(c, names))
+func (r *reference) values(list []*cell, names *bound, ahead []*cell, next func(values []*cell) done) done {
+	if len(list) == 0 {
+		return next(ahead)
 	}
-	return values
+	return r.value(list[0], names).then(func(value *cell) done {
+		return r.values(list[1:], names, slices.Concat(ahead, []*cell{value}), next)
+	})
 }
 
 // last evaluates all and answers the last one's value.
-func (r *reference) last(list []*cell, names *bound) *cell {
-	values := r.values(list, names)
-	return values[len(values)-1]
+func (r *reference) last(list []*cell, names *bound) done {
+	return r.values(list, names, nil, func(values []*cell) done { return itself(values[len(values)-1]) })
 }
 
-func (r *reference) keyword(word string, parts []*cell, names *bound) *cell {
+func (r *reference) keyword(word string, parts []*cell, names *bound) done {
 	switch word {
 	case "quote":
-		return parts[0]
+		return itself(parts[0])
 	case "if":
-		switch is := !isFalse(r.value(parts[0], names)); {
-		case is:
-			return r.value(parts[1], names)
-		case len(parts) == 3:
-			return r.value(parts[2], names)
-		}
-		return emptyList()
-	case "lambda":
-		return lambdaCell(parts[0], parts[1:], names)
-	case "begin", "reset":
-		return r.last(parts, names)
-	case "shift":
-		wrong(api.WhyReset)
-	case "and", "or":
-		value := truth(word == "and")
-		for _, part := range parts {
-			value = r.value(part, names)
-			if isFalse(value) == (word == "and") {
-				return value
+		return r.value(parts[0], names).then(func(value *cell) done {
+			if !isFalse(value) {
+				return r.value(parts[1], names)
 			}
+			if len(parts) == 3 {
+				return r.value(parts[2], names)
+			}
+			return itself(emptyList())
+		})
+	case "lambda":
+		return itself(lambdaCell(parts[0], parts[1:], names))
+	case "begin":
+		return r.last(parts, names)
+	case "reset":
+		return within(r.last(parts, names))
+	case "shift":
+		return done{
+			shift: func(k *cell) done { return r.last(parts[1:], &bound{parts[0].text, k, names}) },
+			rest:  itself,
 		}
-		return value
+	case "and", "or":
+		return r.firstThat(word == "or", truth(word == "and"), parts, names)
 	case "let":
 		return r.let(parts, names)
 	case "set!":
-		value := r.value(parts[1], names)
-		r.set(parts[0].text, value, names)
-		return emptyList()
+		return r.value(parts[1], names).then(func(value *cell) done {
+			r.set(parts[0].text, value, names)
+			return itself(emptyList())
+		})
 	}
 	return r.define(parts)
+}
+
+// firstThat goes on until a value is as true as it is told.
+func (r *reference) firstThat(is bool, value *cell, parts []*cell, names *bound) done {
+	if len(parts) == 0 {
+		return itself(value)
+	}
+	return r.value(parts[0], names).then(func(value *cell) done {
+		if isFalse(value) != is {
+			return itself(value)
+		}
+		return r.firstThat(is, value, parts[1:], names)
+	})
 }
 
 func lambdaCell(parameters *cell, body []*cell, names *bound) *cell {
@@ -360,13 +407,19 @@ func lambdaCell(parameters *cell, body []*cell, names *bound) *cell {
 	return made
 }
 
-func (r *reference) let(parts []*cell, names *bound) *cell {
-	inner := names
+func (r *reference) let(parts []*cell, names *bound) done {
 	bindings, _ := items(parts[0])
+	var forms []*cell
 	for _, binding := range bindings {
-		inner = &bound{binding.head.text, r.value(binding.tail.head, names), inner}
+		forms = append(forms, binding.tail.head)
 	}
-	return r.last(parts[1:], inner)
+	return r.values(forms, names, nil, func(values []*cell) done {
+		inner := names
+		for i, binding := range bindings {
+			inner = &bound{binding.head.text, values[i], inner}
+		}
+		return r.last(parts[1:], inner)
+	})
 }
 
 func (r *reference) set(name string, value *cell, names *bound) {
@@ -382,21 +435,23 @@ func (r *reference) set(name string, value *cell, names *bound) {
 	r.defined[name] = value
 }
 
-func (r *reference) define(parts []*cell) *cell {
+func (r *reference) define(parts []*cell) done {
 	name := parts[0]
 	if name.sort == aPair {
 		r.step()
 		r.defined[name.head.text] = lambdaCell(name.tail, parts[1:], nil)
-		return name.head
+		return itself(name.head)
 	}
-	r.defined[name.text] = r.value(parts[1], nil)
-	return name
+	return r.value(parts[1], nil).then(func(value *cell) done {
+		r.defined[name.text] = value
+		return itself(name)
+	})
 }
 
-func (r *reference) call(procedure *cell, arguments []*cell) *cell {
+func (r *reference) call(procedure *cell, arguments []*cell) done {
 	switch procedure.sort {
 	case aBasic:
-		return r.basic(procedure.text, arguments)
+		return itself(r.basic(procedure.text, arguments))
 	case aLambda:
 		if len(arguments) != len(procedure.parameters) {
 			wrong(api.WhyCount)
@@ -406,9 +461,16 @@ func (r *reference) call(procedure *cell, arguments []*cell) *cell {
 			names = &bound{parameter, arguments[i], names}
 		}
 		return r.last(procedure.body, names)
+	case aTaken:
+		if len(arguments) != 1 {
+			wrong(api.WhyCount)
+		}
+		r.step()
+		r.resumed++
+		return procedure.taken(arguments[0])
 	}
 	wrong(api.WhyCall)
-	return nil
+	return done{}
 }
 
 // counts says how many arguments a procedure takes; a sign behind it: or more.
@@ -451,7 +513,7 @@ func (r *reference) basic(name string, arguments []*cell) *cell {
 		r.shown = append(r.shown, shownCell(arguments[0]))
 		return emptyList()
 	}
-	asked := map[sort]string{aNumber: "number?", aTruth: "boolean?", aSymbol: "symbol?", anEmptyList: "null?", aPair: "pair?", aBasic: "procedure?", aLambda: "procedure?"}
+	asked := map[sort]string{aNumber: "number?", aTruth: "boolean?", aSymbol: "symbol?", anEmptyList: "null?", aPair: "pair?", aBasic: "procedure?", aLambda: "procedure?", aTaken: "procedure?"}
 	return truth(asked[arguments[0].sort] == name)
 }
 
@@ -508,7 +570,7 @@ func shownCell(c *cell) string {
 		return c.number.String()
 	case anEmptyList:
 		return "()"
-	case aBasic, aLambda:
+	case aBasic, aLambda, aTaken:
 		return "#<procedure>"
 	case aPair:
 		text := "(" + shownCell(c.head)
